@@ -1,0 +1,1 @@
+"""Meetways: ways through ties that are there at told moments only."""

@@ -1,0 +1,284 @@
+"""What several tests need: nets, odd things, and the points told over again in the slowest, plainest way."""
+
+import random
+
+FAR = 10 ** 13
+FORTY = 10 ** 39
+
+
+def deep(depth, kind):
+    """A thing nested so deep, of tuples, lists or dicts."""
+    thing = 0
+    for _ in range(depth):
+        if kind == "tuple":
+            thing = (thing,)
+        elif kind == "list":
+            thing = [thing]
+        else:
+            thing = {"to": thing}
+    return thing
+
+
+DEEP = tuple(deep(30, kind) for kind in ("tuple", "list", "dict"))
+
+ODD_PARTS = (
+    True, False, None, "", "0", "1", "to", "both", "To", "to ", "comes", "never", "leaves",
+    0, 1, 2, 3, -1, FAR, FORTY, -FORTY,
+    (), (0,), (None,), (True,), (0, 1), [], [0], [None], {}, {0: 0}, {"to": 1},
+) + DEEP
+
+ODD_THINGS = ODD_PARTS + (
+    "places 1", "places 2\nto 0 1 0 1", "x" * 4000, "9" * 4000, "\n" * 4000,
+    (0,) * 19000, [0] * 19000, (None,) * 19000, (True,) * 300, {n: n for n in range(9000)},
+    (1, ()), (1, []), [1, ()], (True, ()), (0, ()), ("1", ()), (1,), (1, (), ()), (None, ()), (1, None), (1, {}),
+)
+
+
+def same(one, other):
+    """Whether two things are the same, of the same kinds too (True is no 1 here)."""
+    return repr(one) == repr(other)
+
+
+def near(thing):
+    """All things that are as this one but for one part, at any depth, or one part more or fewer."""
+    for odd in ODD_PARTS:
+        yield odd
+    if not isinstance(thing, tuple):
+        if type(thing) is int:
+            yield thing + 1
+            yield thing - 1
+            yield -thing
+            yield str(thing)
+        return
+    yield list(thing)
+    yield dict(enumerate(thing))
+    yield thing + (None,)
+    yield (thing,)
+    for odd in (0, 1, "to", ()):
+        yield thing + (odd,)
+        yield (odd,) + thing
+    for at, part in enumerate(thing):
+        yield thing[:at] + thing[at + 1:]
+        yield thing[:at] + (part,) + thing[at:]
+        for put in near(part):
+            yield thing[:at] + (put,) + thing[at + 1:]
+
+
+# --- the points, told over again -------------------------------------------------------------------------------
+
+
+def whole(thing):
+    return type(thing) is int
+
+
+def right_meeting(many, thing):
+    if type(thing) is not tuple or len(thing) != 5:
+        return False
+    kinds = [type(part) for part in thing]
+    if kinds != [str, int, int, int, int]:
+        return False
+    word, one, other, begin, long = thing
+    places_fit = min(one, other) >= 0 and max(one, other) < many and one != other
+    return (word == "to" or word == "both") and places_fit and begin > -1 and long > 0
+
+
+def right_net(thing):
+    if type(thing) is not tuple or [type(part) for part in thing] != [int, tuple]:
+        return False
+    return thing[0] > 0 and False not in [right_meeting(thing[0], meeting) for meeting in thing[1]]
+
+
+def plain_steps(net):
+    """All steps: for each meeting one, or two."""
+    steps = []
+    for number in range(len(net[1])):
+        word, one, other, begin, long = net[1][number]
+        ways_round = [(one, other)] if word == "to" else [(one, other), (other, one)]
+        steps += [(number, start, to, begin, begin + long) for start, to in ways_round]
+    return steps
+
+
+def gone(net, place, moment, thing):
+    """The steps of a way, or None where the thing is none."""
+    if type(thing) is not tuple or [part for part in thing if type(part) is not int]:
+        return None
+    steps = plain_steps(net)
+    taken = []
+    for number in thing:
+        fitting = [step for step in steps if step[0] == number and step[1] == place and step[3] >= moment]
+        if not fitting:
+            return None
+        taken.append(fitting[0])
+        place, moment = fitting[0][2], fitting[0][4]
+    return taken
+
+
+def end_of_way(net, place, moment, way):
+    """(where the way comes to, when)."""
+    taken = gone(net, place, moment, way)
+    return (taken[-1][2], taken[-1][4]) if taken else (place, moment)
+
+
+def all_ways(net, place, moment):
+    """All ways from the place at the moment: (way, leaving or None, where to, coming)."""
+    steps = plain_steps(net)
+    found = []
+    open_ways = [((), None, place, moment)]
+    while open_ways:
+        way, leaving, here, now = open_ways.pop()
+        found.append((way, leaving, here, now))
+        for number, start, to, begin, end in steps:
+            if start == here and begin >= now:
+                open_ways.append((way + (number,), begin if leaving is None else leaving, to, end))
+    return found
+
+
+def earliest_of_all_ways(net, place, moment):
+    ways = all_ways(net, place, moment)
+    return tuple(min([come for _, _, to, come in ways if to == other], default=None) for other in range(net[0]))
+
+
+def latest_of_all_ways(net, place, moment):
+    told = []
+    for one in range(net[0]):
+        leaves = [leave for _, leave, to, come in all_ways(net, one, 0)
+                  if leave is not None and to == place and come <= moment]
+        told.append(moment if one == place else max(leaves, default=None))
+    return tuple(told)
+
+
+def earliest_again_and_again(net, place, moment):
+    row = [None] * net[0]
+    row[place] = moment
+    changed = True
+    while changed:
+        changed = False
+        for _, start, to, begin, end in plain_steps(net):
+            if row[start] is not None and row[start] <= begin and (row[to] is None or row[to] > end):
+                row[to] = end
+                changed = True
+    return tuple(row)
+
+
+def latest_again_and_again(net, place, moment):
+    row = [None] * net[0]
+    row[place] = moment
+    changed = True
+    while changed:
+        changed = False
+        for _, start, to, begin, end in plain_steps(net):
+            if row[to] is not None and row[to] >= end and (row[start] is None or row[start] < begin):
+                row[start] = begin
+                changed = True
+    return tuple(row)
+
+
+def right_row(net, thing):
+    return type(thing) is tuple and len(thing) == net[0] and not [
+        part for part in thing if part is not None and type(part) is not int]
+
+
+def right_floor(net, place, moment, thing):
+    if not right_row(net, thing) or thing[place] is None or thing[place] > moment:
+        return False
+    open_steps = [step for step in plain_steps(net) if thing[step[1]] is not None and thing[step[1]] <= step[3]]
+    return not [step for step in open_steps if thing[step[2]] is None or thing[step[2]] > step[4]]
+
+
+def right_ceiling(net, place, moment, thing):
+    if not right_row(net, thing) or thing[place] is None or thing[place] < moment:
+        return False
+    open_steps = [step for step in plain_steps(net) if thing[step[2]] is not None and thing[step[2]] >= step[4]]
+    return not [step for step in open_steps if thing[step[1]] is None or thing[step[1]] < step[3]]
+
+
+def right_early_paper(net, place, moment, other, thing):
+    if type(thing) is not tuple or not thing:
+        return False
+    if same(thing[0], "never"):
+        return len(thing) == 2 and right_floor(net, place, moment, thing[1]) and thing[1][other] is None
+    if not same(thing[0], "comes") or len(thing) != 3 or gone(net, place, moment, thing[1]) is None:
+        return False
+    if not right_floor(net, place, moment, thing[2]):
+        return False
+    return end_of_way(net, place, moment, thing[1]) == (other, thing[2][other])
+
+
+def right_late_paper(net, one, place, moment, thing):
+    if type(thing) is not tuple or not thing:
+        return False
+    if same(thing[0], "never"):
+        return len(thing) == 2 and right_ceiling(net, place, moment, thing[1]) and thing[1][one] is None
+    if not same(thing[0], "leaves") or len(thing) != 3 or not right_ceiling(net, place, moment, thing[2]):
+        return False
+    taken = gone(net, one, 0, thing[1])
+    if taken is None:
+        return False
+    if not taken:
+        return one == place and thing[2][one] == moment
+    return taken[-1][2] == place and taken[-1][4] <= moment and taken[0][3] == thing[2][one]
+
+
+# --- nets ------------------------------------------------------------------------------------------------------
+
+
+def some_net(dice, many, count, span, longest, words=("to", "both"), shift=0):
+    """A net of so many places and meetings that begin from shift to shift and span."""
+    meetings = []
+    while len(meetings) < count and many > 1:
+        if meetings and dice.random() < 0.1:
+            meetings.append(dice.choice(meetings))
+            continue
+        one, other = dice.sample(range(many), 2)
+        begin = shift + dice.randint(0, span)
+        meetings.append((dice.choice(words), one, other, begin, dice.randint(1, longest)))
+    return many, tuple(meetings)
+
+
+def chain(many, word, order):
+    """A net whose meetings touch one another, place by place, told in the order."""
+    return many, tuple((word, at, at + 1, 2 * at, 2) for at in order)
+
+
+def small_nets():
+    """Nets so small that all their ways can be gone through."""
+    dice = random.Random(11)
+    nets = [(1, ()), (2, ()), (3, ())]
+    for round_ in range(120):
+        many = 1 + round_ % 5
+        count = dice.randint(0, 7)
+        nets.append(some_net(dice, many, count, dice.choice((0, 3, 8)), dice.choice((1, 3, 6))))
+    return nets
+
+
+def great_nets():
+    """Nets of up to ten places and forty meetings."""
+    dice = random.Random(12)
+    nets = []
+    for round_ in range(40):
+        many = dice.randint(2, 10)
+        span = dice.choice((0, 5, 40, FAR - 1))
+        longest = dice.choice((1, 2, 9, FAR))
+        nets.append(some_net(dice, many, dice.randint(20, 40), span, longest))
+    nets.append(some_net(dice, 10, 40, 30, 5, shift=FAR - 40))
+    nets.append(chain(10, "to", range(9)))
+    nets.append(chain(10, "to", range(8, -1, -1)))
+    nets.append(chain(10, "both", (4, 0, 8, 2, 6, 1, 7, 3, 5)))
+    nets.append((3, (("both", 0, 1, 5, 2),) * 20 + (("both", 1, 2, 7, 1),) * 20))
+    nets.append((10, tuple(("both", at % 10, (at + 3) % 10, 7, 1) for at in range(40))))
+    return nets
+
+
+def moments_of(net):
+    """Moments to ask at: begins and ends, one off, 0, 10 ** 13."""
+    told = {0, FAR}
+    for _, _, _, begin, long in net[1]:
+        for moment in (begin, begin + long):
+            told |= {moment - 1, moment, moment + 1}
+    return sorted(moment for moment in told if moment >= 0)
+
+
+def some_of(dice, things, count):
+    """So many of the things, or all."""
+    things = list(things)
+    return things if len(things) <= count else dice.sample(things, count)

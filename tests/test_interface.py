@@ -1,0 +1,34 @@
+"""The interface: names and arguments as the document lists them."""
+
+import importlib
+import inspect
+import unittest
+
+LISTED = {
+    "nets": ("is_meeting(many, thing)", "is_net(thing)", "steps_of(net)"),
+    "nettexts": ("show_net(net)", "read_net(text)"),
+    "ways": (
+        "is_way(net, place, moment, thing)", "places_on(net, place, way)", "comes_at(net, moment, way)",
+        "waits_on(net, moment, way)",
+    ),
+    "turning": ("top_of(net)", "turned_net(net, top)", "turned_way(way)"),
+    "earliest": ("earliest(net, place, moment)", "early_way(net, place, moment, other)"),
+    "floors": ("floor_holds(net, place, moment, thing)",),
+    "earlypapers": ("early_paper(net, place, moment, other)",),
+    "earlychecks": ("early_paper_holds(net, place, moment, other, thing)",),
+    "latest": ("latest(net, place, moment)",),
+    "latepapers": ("late_paper(net, one, place, moment)",),
+}
+
+
+class Interface(unittest.TestCase):
+    def test_all_that_is_listed_is_there(self):
+        for module_name, listed in LISTED.items():
+            module = importlib.import_module("meetways." + module_name)
+            for line in listed:
+                name = line.partition("(")[0]
+                self.assertEqual(name + str(inspect.signature(getattr(module, name))), line)
+
+
+if __name__ == "__main__":
+    unittest.main()

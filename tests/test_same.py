@@ -1,0 +1,91 @@
+"""Point 2: nothing that is handed in is changed, and the same asked of the same is told the same."""
+
+import copy
+import unittest
+
+import helper
+from meetways.earlychecks import early_paper_holds
+from meetways.earliest import earliest, early_way
+from meetways.earlypapers import early_paper
+from meetways.errors import NoText
+from meetways.floors import floor_holds
+from meetways.latepapers import late_paper
+from meetways.latest import latest
+from meetways.nets import is_meeting, is_net, steps_of
+from meetways.nettexts import read_net, show_net
+from meetways.turning import top_of, turned_net, turned_way
+from meetways.ways import comes_at, is_way, places_on, waits_on
+
+
+def read_or_refused(thing):
+    try:
+        return read_net(thing)
+    except NoText:
+        return "refused"
+
+
+def all_told(net):
+    """One answer of each function over the net."""
+    last = net[0] - 1
+    way = early_way(net, 0, 0, last)
+    told = [is_net(net), steps_of(net), show_net(net), read_net(show_net(net)), top_of(net)]
+    told += [turned_net(net, top_of(net) + 1), earliest(net, 0, 0), latest(net, last, top_of(net)), way]
+    told += [early_paper(net, 0, 0, last), late_paper(net, 0, last, top_of(net))]
+    if way is not None:
+        told += [is_way(net, 0, 0, way), places_on(net, 0, way), comes_at(net, 0, way), waits_on(net, 0, way)]
+        told += [turned_way(way)]
+    return repr(told)
+
+
+def all_judged(net, thing):
+    """What each function that takes anything says of the thing."""
+    return [
+        is_meeting(3, thing), is_net(thing), read_or_refused(thing), is_way(net, 0, 0, thing),
+        floor_holds(net, 0, 0, thing), early_paper_holds(net, 0, 0, 1, thing),
+        early_paper_holds(net, 0, 0, 1, ("comes", thing, thing)), early_paper_holds(net, 0, 0, 1, ("never", thing)),
+    ]
+
+
+class Same(unittest.TestCase):
+    def test_told_the_same_with_others_between(self):
+        nets = helper.small_nets() + helper.great_nets()
+        first = [all_told(net) for net in nets]
+        self.assertEqual([all_told(copy.deepcopy(net)) for net in reversed(nets)], first[::-1])
+        self.assertEqual([all_told(net) for net in nets], first)
+
+    def test_nothing_is_changed(self):
+        net = (3, (("to", 0, 1, 0, 1), ("both", 1, 2, 1, 1)))
+        for thing in helper.ODD_THINGS:
+            kept = copy.deepcopy(thing)
+            told = all_judged(net, thing)
+            self.assertTrue(helper.same(thing, kept))
+            self.assertEqual(all_judged(net, thing), told)
+        self.assertEqual(net, (3, (("to", 0, 1, 0, 1), ("both", 1, 2, 1, 1))))
+
+    def test_what_was_told_may_be_handed_in_again(self):
+        far = "6" * 1900
+        net = read_net(f"places 3\nboth 0 1 {far} {far}\nto 1 2 1{far} 7")
+        self.assertIs(is_net(net), True)
+        for again in (net, turned_net(net, top_of(net)), turned_net(net, top_of(net) + net[1][0][3])):
+            self.assertEqual(read_net(show_net(again)), again)
+            row = earliest(again, 1, 0)
+            for other in range(3):
+                paper = early_paper(again, 1, 0, other)
+                self.assertIs(early_paper_holds(again, 1, 0, other, paper), True)
+                if row[other] is not None:
+                    self.assertEqual(earliest(again, other, row[other])[other], row[other])
+                    late = late_paper(again, 1, other, row[other])
+                    self.assertTrue(helper.right_late_paper(again, 1, other, row[other], late))
+
+    def test_what_is_told_of_several_is_a_tuple(self):
+        net = (3, (("to", 0, 1, 0, 1), ("both", 1, 2, 1, 1)))
+        for told in (
+            steps_of(net), places_on(net, 0, (0,)), waits_on(net, 0, (0,)), turned_net(net, 5), turned_net(net, 5)[1],
+            turned_way((0, 1)), earliest(net, 0, 0), early_way(net, 0, 0, 2), early_paper(net, 0, 0, 2),
+            early_paper(net, 2, 9, 0), latest(net, 2, 5), late_paper(net, 0, 2, 5), late_paper(net, 2, 0, 5),
+        ):
+            self.assertIs(type(told), tuple)
+
+
+if __name__ == "__main__":
+    unittest.main()
