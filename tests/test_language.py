@@ -22,8 +22,7 @@ METHODS = set(
     " join keys ljust lower lstrip partition pop remove replace reverse rfind rjust rpartition rsplit rstrip setdefault"
     " split splitlines startswith strip update upper values zfill bit_length".split())
 BARRED_NODES = (
-    ast.Global, ast.AsyncFunctionDef, ast.AsyncFor, ast.AsyncWith, ast.Await, ast.Import, ast.Div, ast.JoinedStr,
-    ast.MatMult)
+    ast.Global, ast.AsyncFunctionDef, ast.AsyncFor, ast.AsyncWith, ast.Await, ast.Import, ast.Div, ast.MatMult)
 
 
 def names_defined(tree):
@@ -34,6 +33,18 @@ def names_defined(tree):
             found.add(node.name)
         elif isinstance(node, ast.Assign):
             found |= {target.id for target in node.targets}
+    return found
+
+
+def own_attributes():
+    """The methods that the package's classes define, and the attributes that are assigned."""
+    found = set()
+    for tree in TREES.values():
+        for node in ast.walk(tree):
+            if isinstance(node, ast.ClassDef):
+                found |= {part.name for part in node.body if isinstance(part, ast.FunctionDef)}
+            if isinstance(node, ast.Attribute) and isinstance(node.ctx, ast.Store):
+                found.add(node.attr)
     return found
 
 
@@ -105,12 +116,13 @@ class Language(unittest.TestCase):
 
     def test_names(self):
         known = set(dir(builtins))
+        attributes = METHODS | own_attributes()
         for stem, tree in TREES.items():
             taken = {name for _, name in imported(tree)}
             for node in ast.walk(tree):
                 where = (stem, getattr(node, "lineno", 0))
                 if isinstance(node, ast.Attribute):
-                    self.assertIn(node.attr, METHODS, where)
+                    self.assertIn(node.attr, attributes, where)
                 if isinstance(node, ast.Name) and isinstance(node.ctx, ast.Load) and node.id in known:
                     self.assertIn(node.id, BUILTINS, where)
                 if isinstance(node, ast.arg) or (isinstance(node, ast.Name) and isinstance(node.ctx, ast.Store)):
