@@ -1,6 +1,6 @@
 """The earliest comings from a place at a moment, and ways that come then."""
 
-from meetways.nets import steps_of
+from meetways.nets import row_of, steps_of
 
 
 def begin_of_step(step):
@@ -26,9 +26,8 @@ def comings(net, place, moment):
 
 def earliest(net, place, moment):
     """Tell for each place the least moment at which a way comes to it, None where none does."""
-    many, meetings = net
     came, last = comings(net, place, moment)
-    return tuple([came.get(other) for other in range(many)])
+    return row_of(net, came)
 
 
 def early_way(net, place, moment, other):

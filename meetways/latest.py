@@ -1,6 +1,6 @@
 """The latest leavings to come to a place by a moment, and ways that leave then."""
 
-from meetways.nets import steps_of
+from meetways.nets import row_of, steps_of
 
 
 def end_of_step(step):
@@ -26,9 +26,8 @@ def leavings(net, place, moment):
 
 def latest(net, place, moment):
     """Tell for each place the greatest moment at which a way to the place by the moment leaves it, or None."""
-    many, meetings = net
     left, first = leavings(net, place, moment)
-    return tuple([left.get(one) for one in range(many)])
+    return row_of(net, left)
 
 
 def late_way(net, one, place, moment):

@@ -42,3 +42,15 @@ def steps_of(net):
         if word == "both":
             steps.append((number, other, one, begin, begin + long))
     return tuple(steps)
+
+
+def begins_from(net, one, moment):
+    """Tell all moments, rising, each once, from the moment on, at which some step from the one place begins."""
+    return tuple(sorted({
+        begin for number, start, to, begin, end in steps_of(net) if start == one and begin >= moment}))
+
+
+def row_of(net, found):
+    """Tell a row with what was found for each place, None where nothing was."""
+    many, meetings = net
+    return tuple([found.get(place) for place in range(many)])

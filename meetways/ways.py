@@ -42,6 +42,15 @@ def places_on(net, place, way):
     return tuple(places)
 
 
+def leaves_at(net, moment, way):
+    """Tell when the way leaves; without meetings the moment stands for that."""
+    many, meetings = net
+    if len(way) == 0:
+        return moment
+    word, one, other, begin, long = meetings[way[0]]
+    return begin
+
+
 def comes_at(net, moment, way):
     """Tell when the way comes; without meetings that is the moment."""
     many, meetings = net

@@ -2,6 +2,8 @@
 
 import random
 
+from meetways.nettexts import read_net, show_net
+
 FAR = 10 ** 13
 FORTY = 10 ** 39
 
@@ -23,6 +25,7 @@ DEEP = tuple(deep(30, kind) for kind in ("tuple", "list", "dict"))
 
 ODD_PARTS = (
     True, False, None, "", "0", "1", "to", "both", "To", "to ", "comes", "never", "leaves",
+    "takes", "meets",
     0, 1, 2, 3, -1, FAR, FORTY, -FORTY,
     (), (0,), (None,), (True,), (0, 1), [], [0], [None], {}, {0: 0}, {"to": 1},
 ) + DEEP
@@ -52,6 +55,9 @@ def near(thing):
         return
     yield list(thing)
     yield dict(enumerate(thing))
+    yield thing[::-1]
+    for at in range(1, len(thing)):
+        yield thing[:at - 1] + (thing[at], thing[at - 1]) + thing[at + 1:]
     yield thing + (None,)
     yield (thing,)
     for odd in (0, 1, "to", ()):
@@ -219,6 +225,101 @@ def right_late_paper(net, one, place, moment, thing):
     return taken[-1][2] == place and taken[-1][4] <= moment and taken[0][3] == thing[2][one]
 
 
+def unbeaten(found):
+    """Of all (leave, come) those that no other one beats, rising."""
+    found = set(found)
+    return tuple(sorted(
+        pair for pair in found
+        if not [1 for leave, come in found if leave >= pair[0] and come <= pair[1] and (leave, come) != pair]))
+
+
+def pairs_of_all_ways(net, one, other):
+    return unbeaten(
+        (leave, come) for _, leave, to, come in all_ways(net, one, 0) if leave is not None and to == other)
+
+
+def begins_at(net, one, moment):
+    """When steps from the one place begin, from the moment on, each once."""
+    return sorted({step[3] for step in plain_steps(net) if step[1] == one and step[3] >= moment})
+
+
+def pairs_again_and_again(net, one):
+    """For each place the pairs from the one place to it."""
+    rows = [(leave, earliest_again_and_again(net, one, leave)) for leave in begins_at(net, one, 0)]
+    return [unbeaten((leave, row[other]) for leave, row in rows if row[other] is not None) for other in range(net[0])]
+
+
+def least_of(pairs, moment):
+    return min([come - leave for leave, come in pairs if leave >= moment], default=None)
+
+
+def fewest_of_all_ways(net, place, moment, other, by):
+    ways = all_ways(net, place, moment)
+    return min([len(way) for way, _, to, come in ways if to == other and come <= by], default=None)
+
+
+def fewest_by_standings(net, place, moment, other, by):
+    """The fewest meetings, by where and when one can stand behind just so many."""
+    steps = plain_steps(net)
+    standings = {(place, moment)}
+    seen = set(standings)
+    count = 0
+    while standings:
+        if [now for here, now in standings if here == other and now <= by]:
+            return count
+        standings = {(step[2], step[4]) for here, now in standings for step in steps
+                     if step[1] == here and step[3] >= now} - seen
+        seen |= standings
+        count += 1
+    return None
+
+
+def right_time_paper(net, one, moment, other, thing):
+    if type(thing) is not tuple or not thing:
+        return False
+    if same(thing[0], "never"):
+        return len(thing) == 2 and right_floor(net, one, moment, thing[1]) and thing[1][other] is None
+    if not same(thing[0], "takes") or len(thing) != 3 or type(thing[2]) is not tuple:
+        return False
+    taken = gone(net, one, moment, thing[1])
+    if not taken or taken[-1][2] != other:
+        return False
+    if [part for part in thing[2] if type(part) is not tuple or len(part) != 2]:
+        return False
+    if not same([part[0] for part in thing[2]], begins_at(net, one, moment)):
+        return False
+    for begin, floor in thing[2]:
+        if not right_floor(net, one, begin, floor):
+            return False
+        if floor[other] is not None and floor[other] - begin < taken[-1][4] - taken[0][3]:
+            return False
+    return True
+
+
+def right_meets_paper(net, place, moment, other, by, thing):
+    if type(thing) is not tuple or not thing:
+        return False
+    if same(thing[0], "never"):
+        return len(thing) == 2 and right_floor(net, place, moment, thing[1]) and (
+            thing[1][other] is None or thing[1][other] > by)
+    if not same(thing[0], "meets") or len(thing) != 3 or gone(net, place, moment, thing[1]) is None:
+        return False
+    to, come = end_of_way(net, place, moment, thing[1])
+    rows = thing[2]
+    if to != other or come > by or type(rows) is not tuple or len(rows) != len(thing[1]):
+        return False
+    if [row for row in rows if not right_row(net, row)]:
+        return False
+    for at, row in enumerate(rows):
+        bars = [(place, moment)] if at == 0 else [(to, end) for to, end in enumerate(rows[at - 1]) if end is not None]
+        if at > 0:
+            bars += [(to, end) for _, start, to, begin, end in plain_steps(net)
+                     if rows[at - 1][start] is not None and rows[at - 1][start] <= begin]
+        if [1 for to, end in bars if row[to] is None or row[to] > end]:
+            return False
+    return not rows or rows[-1][other] is None or rows[-1][other] > by
+
+
 # --- nets ------------------------------------------------------------------------------------------------------
 
 
@@ -267,6 +368,26 @@ def great_nets():
     nets.append((3, (("both", 0, 1, 5, 2),) * 20 + (("both", 1, 2, 7, 1),) * 20))
     nets.append((10, tuple(("both", at % 10, (at + 3) % 10, 7, 1) for at in range(40))))
     return nets
+
+
+def read_nets():
+    """Nets that were read of their texts: moments of forty figures, and a chain of forty meetings."""
+    dice = random.Random(20)
+    nets = [
+        some_net(dice, 10, 40, 30, 6, shift=FORTY), some_net(dice, 6, 40, 12, 3, shift=10 * FORTY - 20),
+        some_net(dice, 4, 12, FORTY, FORTY), chain(41, "to", range(40)), chain(41, "both", range(39, -1, -1)),
+    ]
+    return [read_net(show_net(net)) for net in nets]
+
+
+def lowered(dice, row):
+    """The row with some numbers less."""
+    return tuple(number if number is None else number - dice.choice((0, 0, 1, 2, 50)) for number in row)
+
+
+def raised(dice, row):
+    """The row with some numbers more."""
+    return tuple(number if number is None else number + dice.choice((0, 0, 1, 2, 50)) for number in row)
 
 
 def moments_of(net):

@@ -18,6 +18,12 @@ LISTED = {
     "earlychecks": ("early_paper_holds(net, place, moment, other, thing)",),
     "latest": ("latest(net, place, moment)",),
     "latepapers": ("late_paper(net, one, place, moment)",),
+    "latechecks": ("ceiling_holds(net, place, moment, thing)", "late_paper_holds(net, one, place, moment, thing)"),
+    "times": ("least_time(net, one, moment, other)", "time_paper(net, one, moment, other)"),
+    "timechecks": ("time_paper_holds(net, one, moment, other, thing)",),
+    "fewest": ("fewest(net, place, moment, other, by)", "meets_paper(net, place, moment, other, by)"),
+    "meetchecks": ("meets_paper_holds(net, place, moment, other, by, thing)",),
+    "reach": ("reach(net, one, other)",),
 }
 
 

@@ -104,8 +104,9 @@ class Language(unittest.TestCase):
                 self.assertNotIsInstance(node, BARRED_NODES, where)
                 if isinstance(node, (ast.FunctionDef, ast.ClassDef)):
                     self.assertEqual(node.decorator_list, [], where)
-                    self.assertLessEqual(node.end_lineno - node.lineno + 1, 40, where)
                     self.assertIsNotNone(ast.get_docstring(node), where)
+                if isinstance(node, ast.FunctionDef):
+                    self.assertLessEqual(node.end_lineno - node.lineno + 1, 40, where)
                 if isinstance(node, ast.Constant):
                     self.assertNotIsInstance(node.value, (float, complex), where)
                     self.assertNotIn("%", str(node.value), where)

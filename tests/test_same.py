@@ -8,11 +8,17 @@ from meetways.earlychecks import early_paper_holds
 from meetways.earliest import earliest, early_way
 from meetways.earlypapers import early_paper
 from meetways.errors import NoText
+from meetways.fewest import fewest, meets_paper
 from meetways.floors import floor_holds
+from meetways.latechecks import ceiling_holds, late_paper_holds
 from meetways.latepapers import late_paper
 from meetways.latest import latest
+from meetways.meetchecks import meets_paper_holds
 from meetways.nets import is_meeting, is_net, steps_of
 from meetways.nettexts import read_net, show_net
+from meetways.reach import reach
+from meetways.timechecks import time_paper_holds
+from meetways.times import least_time, time_paper
 from meetways.turning import top_of, turned_net, turned_way
 from meetways.ways import comes_at, is_way, places_on, waits_on
 
@@ -31,6 +37,9 @@ def all_told(net):
     told = [is_net(net), steps_of(net), show_net(net), read_net(show_net(net)), top_of(net)]
     told += [turned_net(net, top_of(net) + 1), earliest(net, 0, 0), latest(net, last, top_of(net)), way]
     told += [early_paper(net, 0, 0, last), late_paper(net, 0, last, top_of(net))]
+    told += [fewest(net, 0, 0, last, top_of(net)), meets_paper(net, 0, 0, last, top_of(net))]
+    if last > 0:
+        told += [least_time(net, 0, 1, last), time_paper(net, 0, 1, last), reach(net, 0, last), reach(net, last, 0)]
     if way is not None:
         told += [is_way(net, 0, 0, way), places_on(net, 0, way), comes_at(net, 0, way), waits_on(net, 0, way)]
         told += [turned_way(way)]
@@ -43,6 +52,11 @@ def all_judged(net, thing):
         is_meeting(3, thing), is_net(thing), read_or_refused(thing), is_way(net, 0, 0, thing),
         floor_holds(net, 0, 0, thing), early_paper_holds(net, 0, 0, 1, thing),
         early_paper_holds(net, 0, 0, 1, ("comes", thing, thing)), early_paper_holds(net, 0, 0, 1, ("never", thing)),
+        ceiling_holds(net, 2, 2, thing), late_paper_holds(net, 0, 2, 2, thing),
+        late_paper_holds(net, 0, 2, 2, ("leaves", thing, thing)), time_paper_holds(net, 0, 0, 2, thing),
+        time_paper_holds(net, 0, 0, 2, ("takes", thing, thing)), time_paper_holds(net, 0, 0, 2, ("takes", (0, 1), thing)),
+        meets_paper_holds(net, 0, 0, 2, 5, thing), meets_paper_holds(net, 0, 0, 2, 5, ("meets", thing, thing)),
+        meets_paper_holds(net, 0, 0, 2, 5, ("meets", (0, 1), thing)),
     ]
 
 
@@ -76,6 +90,16 @@ class Same(unittest.TestCase):
                     self.assertEqual(earliest(again, other, row[other])[other], row[other])
                     late = late_paper(again, 1, other, row[other])
                     self.assertTrue(helper.right_late_paper(again, 1, other, row[other], late))
+                    self.assertIs(late_paper_holds(again, 1, other, row[other], late), True)
+                    paper = meets_paper(again, 1, 0, other, row[other])
+                    self.assertIs(meets_paper_holds(again, 1, 0, other, row[other], paper), True)
+                    self.assertIs(is_way(again, 1, 0, paper[1]), True)
+                if other != 1:
+                    paper = time_paper(again, 1, 0, other)
+                    self.assertIs(time_paper_holds(again, 1, 0, other, paper), True)
+                    for leave, come in reach(again, 1, other):
+                        self.assertEqual(earliest(again, 1, leave)[other], come)
+                        self.assertEqual(least_time(again, 1, leave, other), come - leave)
 
     def test_what_is_told_of_several_is_a_tuple(self):
         net = (3, (("to", 0, 1, 0, 1), ("both", 1, 2, 1, 1)))
@@ -83,6 +107,9 @@ class Same(unittest.TestCase):
             steps_of(net), places_on(net, 0, (0,)), waits_on(net, 0, (0,)), turned_net(net, 5), turned_net(net, 5)[1],
             turned_way((0, 1)), earliest(net, 0, 0), early_way(net, 0, 0, 2), early_paper(net, 0, 0, 2),
             early_paper(net, 2, 9, 0), latest(net, 2, 5), late_paper(net, 0, 2, 5), late_paper(net, 2, 0, 5),
+            time_paper(net, 0, 0, 2), time_paper(net, 0, 0, 2)[2], time_paper(net, 0, 0, 2)[2][0], time_paper(net, 0, 9, 2),
+            meets_paper(net, 0, 0, 2, 5), meets_paper(net, 0, 0, 2, 5)[2], meets_paper(net, 0, 0, 2, 1),
+            reach(net, 0, 2), reach(net, 0, 2)[0], reach(net, 2, 0),
         ):
             self.assertIs(type(told), tuple)
 
