@@ -320,6 +320,86 @@ def right_meets_paper(net, place, moment, other, by, thing):
     return not rows or rows[-1][other] is None or rows[-1][other] > by
 
 
+def right_reach_paper(net, one, other, thing):
+    if type(thing) is not tuple or [type(part) for part in thing] != [tuple, tuple]:
+        return False
+    rows, floors = thing
+    if len(floors) != len(rows) + 1:
+        return False
+    ahead = (-1, -1)
+    for row in rows:
+        if type(row) is not tuple or [type(part) for part in row] != [int, int, tuple]:
+            return False
+        taken = gone(net, one, 0, row[2])
+        if not taken or (taken[0][3], taken[-1][2], taken[-1][4]) != (row[0], other, row[1]):
+            return False
+        if row[0] <= ahead[0] or row[1] <= ahead[1]:
+            return False
+        ahead = row
+    for at, floor in enumerate(floors):
+        if not right_floor(net, one, rows[at - 1][0] + 1 if at > 0 else 0, floor):
+            return False
+        if floor[other] is not None and (at == len(rows) or floor[other] < rows[at][1]):
+            return False
+    return True
+
+
+def waits_of(net, place, moment, way):
+    """How long each of the way's meetings is waited for."""
+    waits = []
+    for _, _, _, begin, end in gone(net, place, moment, way):
+        waits.append(begin - moment)
+        moment = end
+    return waits
+
+
+def waiting_of_all_ways(net, place, moment, bound):
+    ways = [way for way in all_ways(net, place, moment) if max(waits_of(net, place, moment, way[0]), default=0) <= bound]
+    return tuple(min([come for _, _, to, come in ways if to == other], default=None) for other in range(net[0]))
+
+
+def waiting_by_standings(net, place, moment, bound):
+    """The least comings, by where and when one can stand behind any let way."""
+    ahead = [(place, moment)]
+    seen = set(ahead)
+    while ahead:
+        here, now = ahead.pop()
+        for _, start, to, begin, end in plain_steps(net):
+            if start == here and 0 <= begin - now <= bound and (to, end) not in seen:
+                seen.add((to, end))
+                ahead.append((to, end))
+    return tuple(min([now for here, now in seen if here == other], default=None) for other in range(net[0]))
+
+
+def right_wait_steps(net, place, moment, bound, thing):
+    """Whether the thing is a tuple some as point 21 tells, of pairs of steps."""
+    if type(thing) is not tuple or [1 for part in thing if type(part) is not tuple]:
+        return False
+    if [1 for part in thing if [type(number) for number in part] != [int, int]]:
+        return False
+    steps = {(step[0], step[1]): step for step in plain_steps(net)}
+    if [1 for part in thing if part not in steps] or [1 for one, two in zip(thing, thing[1:]) if one >= two]:
+        return False
+    for here, now in [(place, moment)] + [(steps[part][2], steps[part][4]) for part in thing]:
+        if [1 for step in steps.values() if step[1] == here and now <= step[3] <= now + bound and step[:2] not in thing]:
+            return False
+    return True
+
+
+def right_wait_paper(net, place, moment, other, bound, thing):
+    if type(thing) is not tuple or not thing or not right_wait_steps(net, place, moment, bound, thing[-1]):
+        return False
+    ends = [end for number, start, to, _, end in plain_steps(net) if to == other and (number, start) in thing[-1]]
+    if same(thing[0], "never"):
+        return len(thing) == 2 and place != other and not ends
+    if not same(thing[0], "comes") or len(thing) != 3 or gone(net, place, moment, thing[1]) is None:
+        return False
+    if max(waits_of(net, place, moment, thing[1]), default=0) > bound or (place == other and thing[1]):
+        return False
+    to, come = end_of_way(net, place, moment, thing[1])
+    return to == other and not [end for end in ends if end < come]
+
+
 # --- nets ------------------------------------------------------------------------------------------------------
 
 

@@ -24,6 +24,15 @@ LISTED = {
     "fewest": ("fewest(net, place, moment, other, by)", "meets_paper(net, place, moment, other, by)"),
     "meetchecks": ("meets_paper_holds(net, place, moment, other, by, thing)",),
     "reach": ("reach(net, one, other)",),
+    "reachpapers": ("reach_paper(net, one, other)",),
+    "reachchecks": ("reach_paper_holds(net, one, other, thing)",),
+    "waiting": ("waiting(net, place, moment, bound)",),
+    "waitpapers": ("wait_paper(net, place, moment, other, bound)",),
+}
+
+CLASSES = {
+    ("tables", "Tables(many)"): (
+        "tell(self, meeting)", "strike(self, number)", "table(self, one, other)", "standing(self)"),
 }
 
 
@@ -34,6 +43,16 @@ class Interface(unittest.TestCase):
             for line in listed:
                 name = line.partition("(")[0]
                 self.assertEqual(name + str(inspect.signature(getattr(module, name))), line)
+
+    def test_all_methods_are_defined_in_their_class_itself(self):
+        for (module_name, line), methods in CLASSES.items():
+            module = importlib.import_module("meetways." + module_name)
+            name = line.partition("(")[0]
+            kind = getattr(module, name)
+            self.assertEqual(name + str(inspect.signature(kind)), line)
+            for method in methods:
+                name = method.partition("(")[0]
+                self.assertEqual(name + str(inspect.signature(vars(kind)[name])), method)
 
 
 if __name__ == "__main__":

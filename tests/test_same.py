@@ -17,9 +17,13 @@ from meetways.meetchecks import meets_paper_holds
 from meetways.nets import is_meeting, is_net, steps_of
 from meetways.nettexts import read_net, show_net
 from meetways.reach import reach
+from meetways.reachchecks import reach_paper_holds
+from meetways.reachpapers import reach_paper
 from meetways.timechecks import time_paper_holds
 from meetways.times import least_time, time_paper
 from meetways.turning import top_of, turned_net, turned_way
+from meetways.waiting import waiting
+from meetways.waitpapers import wait_paper
 from meetways.ways import comes_at, is_way, places_on, waits_on
 
 
@@ -40,6 +44,8 @@ def all_told(net):
     told += [fewest(net, 0, 0, last, top_of(net)), meets_paper(net, 0, 0, last, top_of(net))]
     if last > 0:
         told += [least_time(net, 0, 1, last), time_paper(net, 0, 1, last), reach(net, 0, last), reach(net, last, 0)]
+        told += [reach_paper(net, 0, last), reach_paper(net, last, 0)]
+    told += [waiting(net, 0, 0, 3), waiting(net, last, 1, 0), wait_paper(net, 0, 0, last, 3)]
     if way is not None:
         told += [is_way(net, 0, 0, way), places_on(net, 0, way), comes_at(net, 0, way), waits_on(net, 0, way)]
         told += [turned_way(way)]
@@ -56,7 +62,8 @@ def all_judged(net, thing):
         late_paper_holds(net, 0, 2, 2, ("leaves", thing, thing)), time_paper_holds(net, 0, 0, 2, thing),
         time_paper_holds(net, 0, 0, 2, ("takes", thing, thing)), time_paper_holds(net, 0, 0, 2, ("takes", (0, 1), thing)),
         meets_paper_holds(net, 0, 0, 2, 5, thing), meets_paper_holds(net, 0, 0, 2, 5, ("meets", thing, thing)),
-        meets_paper_holds(net, 0, 0, 2, 5, ("meets", (0, 1), thing)),
+        meets_paper_holds(net, 0, 0, 2, 5, ("meets", (0, 1), thing)), reach_paper_holds(net, 0, 2, thing),
+        reach_paper_holds(net, 0, 2, (thing, thing)), reach_paper_holds(net, 0, 2, (((0, 2, (0, 1)),), thing)),
     ]
 
 
@@ -100,6 +107,13 @@ class Same(unittest.TestCase):
                     for leave, come in reach(again, 1, other):
                         self.assertEqual(earliest(again, 1, leave)[other], come)
                         self.assertEqual(least_time(again, 1, leave, other), come - leave)
+                        self.assertEqual(waiting(again, 1, leave, 0)[1], leave)
+                        self.assertEqual(waiting(again, 1, 0, leave + come)[other], earliest(again, 1, 0)[other])
+                    paper = reach_paper(again, 1, other)
+                    self.assertIs(reach_paper_holds(again, 1, other, paper), True)
+                    self.assertEqual(tuple(row[:2] for row in paper[0]), reach(again, 1, other))
+                paper = wait_paper(again, 1, 0, other, top_of(again))
+                self.assertTrue(helper.right_wait_paper(again, 1, 0, other, top_of(again), paper))
 
     def test_what_is_told_of_several_is_a_tuple(self):
         net = (3, (("to", 0, 1, 0, 1), ("both", 1, 2, 1, 1)))
@@ -109,7 +123,9 @@ class Same(unittest.TestCase):
             early_paper(net, 2, 9, 0), latest(net, 2, 5), late_paper(net, 0, 2, 5), late_paper(net, 2, 0, 5),
             time_paper(net, 0, 0, 2), time_paper(net, 0, 0, 2)[2], time_paper(net, 0, 0, 2)[2][0], time_paper(net, 0, 9, 2),
             meets_paper(net, 0, 0, 2, 5), meets_paper(net, 0, 0, 2, 5)[2], meets_paper(net, 0, 0, 2, 1),
-            reach(net, 0, 2), reach(net, 0, 2)[0], reach(net, 2, 0),
+            reach(net, 0, 2), reach(net, 0, 2)[0], reach(net, 2, 0), *reach_paper(net, 0, 2), reach_paper(net, 0, 2),
+            waiting(net, 0, 0, 1), wait_paper(net, 0, 0, 2, 1), *wait_paper(net, 0, 0, 2, 1)[1:],
+            wait_paper(net, 2, 0, 0, 1), wait_paper(net, 0, 0, 2, 1)[2][0],
         ):
             self.assertIs(type(told), tuple)
 
