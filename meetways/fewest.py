@@ -51,6 +51,14 @@ def fewest(net, place, moment, other, by):
     return len(layers) - 1
 
 
+def few_way(net, place, moment, other, by):
+    """Tell a way of the fewest meetings that comes to the other place by then, None where none does."""
+    layers = layers_until(net, place, moment, other, by)
+    if layers is None:
+        return None
+    return way_through(layers, other)
+
+
 def meets_paper(net, place, moment, other, by):
     """Tell a paper of the fewest meetings from the place at the moment to the other one by then."""
     layers = layers_until(net, place, moment, other, by)

@@ -2,7 +2,7 @@
 
 from meetways.floors import floor_holds, is_by
 from meetways.nets import steps_of
-from meetways.ways import comes_at, is_way, places_on
+from meetways.ways import is_way_by
 from meetways.wholes import is_row_of
 
 
@@ -28,9 +28,9 @@ def rows_hold(net, place, moment, rows):
 
 def meets_holds(net, place, moment, other, by, way, rows):
     """Tell whether the way comes to the other place by then, and the rows show that none has fewer meetings."""
-    if not is_way(net, place, moment, way) or places_on(net, place, way)[-1] != other:
+    if not is_way_by(net, place, moment, other, by, way):
         return False
-    if comes_at(net, moment, way) > by or not isinstance(rows, tuple) or len(rows) != len(way):
+    if not isinstance(rows, tuple) or len(rows) != len(way):
         return False
     if len(rows) == 0:
         return True

@@ -59,6 +59,13 @@ def comes_at(net, moment, way):
     return end_of(meetings[way[-1]])
 
 
+def is_way_by(net, place, moment, other, by, thing):
+    """Tell whether the thing is a way from the place at the moment that comes to the other place by then."""
+    if not is_way(net, place, moment, thing):
+        return False
+    return places_on(net, place, thing)[-1] == other and comes_at(net, moment, thing) <= by
+
+
 def waits_on(net, moment, way):
     """Tell for each meeting of the way how long it is waited for."""
     many, meetings = net

@@ -20,6 +20,13 @@ def is_row_of(many, thing):
     return all(part is None or is_whole(part) for part in thing)
 
 
+def is_rising_below(many, thing):
+    """Tell whether the thing is a tuple of whole numbers from 0 to many less 1, rising."""
+    if not isinstance(thing, tuple) or not all(is_number_below(many, part) for part in thing):
+        return False
+    return all(part < further for part, further in zip(thing, thing[1:]))
+
+
 def figures_of(number):
     """Write a whole number from 0 in figures."""
     if number == 0:

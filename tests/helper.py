@@ -1,5 +1,6 @@
 """What several tests need: nets, odd things, and the points told over again in the slowest, plainest way."""
 
+import itertools
 import random
 
 from meetways.nettexts import read_net, show_net
@@ -25,7 +26,7 @@ DEEP = tuple(deep(30, kind) for kind in ("tuple", "list", "dict"))
 
 ODD_PARTS = (
     True, False, None, "", "0", "1", "to", "both", "To", "to ", "comes", "never", "leaves",
-    "takes", "meets",
+    "takes", "meets", "alike", "parts",
     0, 1, 2, 3, -1, FAR, FORTY, -FORTY,
     (), (0,), (None,), (True,), (0, 1), [], [0], [None], {}, {0: 0}, {"to": 1},
 ) + DEEP
@@ -400,6 +401,139 @@ def right_wait_paper(net, place, moment, other, bound, thing):
     return to == other and not [end for end in ends if end < come]
 
 
+def takings_again_and_again(net, hands):
+    """What point 22 tells, each place's least taking made anew of the row until nothing changes."""
+    row = [None] * net[0]
+    while True:
+        made = []
+        for place in range(net[0]):
+            may = [(moment, hand, -1) for hand, (start, moment) in enumerate(hands) if start == place]
+            may += [(end, row[start][1], number) for number, start, to, begin, end in plain_steps(net)
+                    if to == place and row[start] is not None and row[start][0] <= begin]
+            made.append(min(may, default=None))
+        if made == row:
+            return tuple(row)
+        row = made
+
+
+def takings_of_all_ways(net, hands):
+    """When each place is come to at the soonest by a way of any hand."""
+    rows = [earliest_of_all_ways(net, place, moment) for place, moment in hands]
+    return [min([row[place] for row in rows if row[place] is not None], default=None) for place in range(net[0])]
+
+
+def ways_by(net, place, moment, other, by):
+    """All ways that come to the other place by then."""
+    return [way for way, _, to, come in all_ways(net, place, moment) if to == other and come <= by]
+
+
+def least_of_sets(sets):
+    """The sets of which no other one is a part, each once."""
+    found = []
+    for one in sorted(set(map(frozenset, sets)), key=lambda one: (len(one), sorted(one))):
+        if not [other for other in found if other <= one]:
+            found.append(one)
+    return found
+
+
+def most_unshared(sets):
+    """How many of the sets at most share nothing."""
+    most = 0
+    for at, one in enumerate(sets):
+        rest = [other for other in sets[at + 1:] if not one & other]
+        if len(rest) + 1 > most:
+            most = max(most, 1 + most_unshared(rest))
+    return most
+
+
+def fewest_hitting(sets, things):
+    """The first of the fewest of the rising things, as tuples are compared, that hit each set; None where none do."""
+    for count in range(len(things) + 1):
+        for chosen in itertools.combinations(things, count):
+            if not [one for one in sets if not one & set(chosen)]:
+                return chosen
+    return None
+
+
+def inner_of(net, place, other):
+    return [inner for inner in range(net[0]) if inner not in (place, other)]
+
+
+def inner_sets_of_all_ways(net, place, moment, other, by):
+    """The inner places of each way that comes to the other place by then, of which none can be spared."""
+    sets = []
+    for way in ways_by(net, place, moment, other, by):
+        on = {place} | {step[2] for step in gone(net, place, moment, way)}
+        sets.append(on - {place, other})
+    return least_of_sets(sets)
+
+
+def comes_without(net, place, moment, other, by, lost):
+    """Whether some way comes to the other place by then and to none of the lost ones."""
+    kept = tuple(meeting for meeting in net[1] if meeting[1] not in lost and meeting[2] not in lost)
+    come = earliest_again_and_again((net[0], kept), place, moment)[other]
+    return come is not None and come <= by
+
+
+def inner_sets_of_all_places(net, place, moment, other, by):
+    """As above, by all sets of inner places."""
+    inner = inner_of(net, place, other)
+    sets = []
+    for count in range(len(inner) + 1):
+        for kept in itertools.combinations(inner, count):
+            if not [one for one in sets if one <= set(kept)]:
+                if comes_without(net, place, moment, other, by, set(inner) - set(kept)):
+                    sets.append(frozenset(kept))
+    return sets
+
+
+def right_way_by(net, place, moment, other, by, thing):
+    if gone(net, place, moment, thing) is None:
+        return False
+    to, come = end_of_way(net, place, moment, thing)
+    return to == other and come <= by
+
+
+def right_rising(many, thing):
+    if type(thing) is not tuple or [part for part in thing if type(part) is not int]:
+        return False
+    return list(thing) == sorted(set(thing)) and not [part for part in thing if part < 0 or part >= many]
+
+
+def right_parted(net, place, moment, other, by, thing):
+    if type(thing) is not tuple or len(thing) != 3 or type(thing[0]) is not tuple:
+        return False
+    ways, lost, floor = thing
+    if not right_rising(len(net[1]), lost) or len(lost) != len(ways):
+        return False
+    if [way for way in ways if not right_way_by(net, place, moment, other, by, way)]:
+        return False
+    if [1 for one, two in itertools.combinations(ways, 2) if set(one) & set(two)]:
+        return False
+    kept = tuple(meeting for number, meeting in enumerate(net[1]) if number not in lost)
+    return right_floor((net[0], kept), place, moment, floor) and (floor[other] is None or floor[other] > by)
+
+
+def right_lost_paper(net, place, moment, other, by, thing):
+    if type(thing) is not tuple or len(thing) != 3 or type(thing[2]) is not tuple:
+        return False
+    lost, floor, ways = thing
+    if not right_rising(net[0], lost) or place in lost or other in lost:
+        return False
+    kept = tuple(meeting for meeting in net[1] if meeting[1] not in lost and meeting[2] not in lost)
+    if not right_floor((net[0], kept), place, moment, floor) or (floor[other] is not None and floor[other] <= by):
+        return False
+    fewer = list(itertools.combinations(inner_of(net, place, other), len(lost) - 1)) if lost else []
+    if len(ways) != len(fewer):
+        return False
+    for shunned, way in zip(fewer, ways):
+        if not right_way_by(net, place, moment, other, by, way):
+            return False
+        if {step[2] for step in gone(net, place, moment, way)} & set(shunned):
+            return False
+    return True
+
+
 # --- nets ------------------------------------------------------------------------------------------------------
 
 
@@ -458,6 +592,29 @@ def read_nets():
         some_net(dice, 4, 12, FORTY, FORTY), chain(41, "to", range(40)), chain(41, "both", range(39, -1, -1)),
     ]
     return [read_net(show_net(net)) for net in nets]
+
+
+# Ways from 0 to 4 come to 1 and 2, to 1 and 3, or to 2 and 3: any two share a place, no place is on all of them.
+UNSHARED = ((0, 1, 0), (1, 2, 1), (2, 4, 2), (0, 2, 3), (2, 3, 4), (3, 4, 5), (1, 3, 1))
+
+
+def places_nets():
+    """Nets of ten places without a straight meeting of 0 and 9, in which fewer ways may be apart than places lost."""
+    dice = random.Random(21)
+    nets = []
+    for round_ in range(90):
+        meetings = []
+        for _ in range(round_ % 4):
+            named = (0, *dice.sample(range(1, 9), 3), 9)
+            slow, shift = dice.choice((1, 2, 3)), dice.choice((0, 1, 4))
+            meetings += [("to", named[one], named[other], begin * slow + shift, 1) for one, other, begin in UNSHARED]
+        for _ in range(dice.randint(6, 12)):
+            one, other = sorted(dice.sample(range(10), 2), key=lambda place: (place == 9, place != 0, dice.random()))
+            if (one, other) != (0, 9):
+                meetings.append((dice.choice(("to", "both")), one, other, dice.randint(0, 20), dice.randint(1, 3)))
+        dice.shuffle(meetings)
+        nets.append((10, tuple(meetings)))
+    return nets
 
 
 def lowered(dice, row):

@@ -28,6 +28,15 @@ LISTED = {
     "reachchecks": ("reach_paper_holds(net, one, other, thing)",),
     "waiting": ("waiting(net, place, moment, bound)",),
     "waitpapers": ("wait_paper(net, place, moment, other, bound)",),
+    "waitchecks": ("wait_paper_holds(net, place, moment, other, bound, thing)",),
+    "spreading": ("spread(net, hands)", "spread_way(net, hands, place)"),
+    "spreadchecks": ("spread_holds(net, hands, thing)",),
+    "parting": ("parted(net, place, moment, other, by)",),
+    "partchecks": ("parted_holds(net, place, moment, other, by, thing)",),
+    "losing": (
+        "places_lost(net, place, moment, other, by)", "places_apart(net, place, moment, other, by)",
+        "lost_paper(net, place, moment, other, by)", "gap()",
+    ),
 }
 
 CLASSES = {

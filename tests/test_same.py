@@ -13,15 +13,21 @@ from meetways.floors import floor_holds
 from meetways.latechecks import ceiling_holds, late_paper_holds
 from meetways.latepapers import late_paper
 from meetways.latest import latest
+from meetways.losing import gap, lost_paper, places_apart, places_lost
 from meetways.meetchecks import meets_paper_holds
 from meetways.nets import is_meeting, is_net, steps_of
 from meetways.nettexts import read_net, show_net
+from meetways.partchecks import parted_holds
+from meetways.parting import parted
 from meetways.reach import reach
 from meetways.reachchecks import reach_paper_holds
 from meetways.reachpapers import reach_paper
+from meetways.spreadchecks import spread_holds
+from meetways.spreading import spread, spread_way
 from meetways.timechecks import time_paper_holds
 from meetways.times import least_time, time_paper
 from meetways.turning import top_of, turned_net, turned_way
+from meetways.waitchecks import wait_paper_holds
 from meetways.waiting import waiting
 from meetways.waitpapers import wait_paper
 from meetways.ways import comes_at, is_way, places_on, waits_on
@@ -45,7 +51,11 @@ def all_told(net):
     if last > 0:
         told += [least_time(net, 0, 1, last), time_paper(net, 0, 1, last), reach(net, 0, last), reach(net, last, 0)]
         told += [reach_paper(net, 0, last), reach_paper(net, last, 0)]
+        told += [parted(net, 0, 0, last, top_of(net)), places_lost(net, 0, 0, last, top_of(net)), gap()]
+        if places_lost(net, 0, 0, last, top_of(net)) is not None:
+            told += [places_apart(net, 0, 0, last, top_of(net)), lost_paper(net, 0, 0, last, top_of(net))]
     told += [waiting(net, 0, 0, 3), waiting(net, last, 1, 0), wait_paper(net, 0, 0, last, 3)]
+    told += [spread(net, ((0, 0), (last, 1))), spread_way(net, ((last, 0), (0, 0)), last)]
     if way is not None:
         told += [is_way(net, 0, 0, way), places_on(net, 0, way), comes_at(net, 0, way), waits_on(net, 0, way)]
         told += [turned_way(way)]
@@ -64,6 +74,10 @@ def all_judged(net, thing):
         meets_paper_holds(net, 0, 0, 2, 5, thing), meets_paper_holds(net, 0, 0, 2, 5, ("meets", thing, thing)),
         meets_paper_holds(net, 0, 0, 2, 5, ("meets", (0, 1), thing)), reach_paper_holds(net, 0, 2, thing),
         reach_paper_holds(net, 0, 2, (thing, thing)), reach_paper_holds(net, 0, 2, (((0, 2, (0, 1)),), thing)),
+        wait_paper_holds(net, 0, 0, 2, 5, thing), wait_paper_holds(net, 0, 0, 2, 5, ("comes", thing, thing)),
+        wait_paper_holds(net, 0, 0, 2, 5, ("comes", thing, ((0, 0), (1, 1)))), spread_holds(net, ((0, 0),), thing),
+        spread_holds(net, ((0, 0),), (thing, thing, thing)), parted_holds(net, 0, 0, 2, 5, thing),
+        parted_holds(net, 0, 0, 2, 5, (thing, thing, thing)), parted_holds(net, 0, 0, 2, 5, (((0, 1),), thing, thing)),
     ]
 
 
@@ -112,8 +126,15 @@ class Same(unittest.TestCase):
                     paper = reach_paper(again, 1, other)
                     self.assertIs(reach_paper_holds(again, 1, other, paper), True)
                     self.assertEqual(tuple(row[:2] for row in paper[0]), reach(again, 1, other))
+                    ways, lost, floor = parted(again, 1, 0, other, top_of(again))
+                    self.assertIs(parted_holds(again, 1, 0, other, top_of(again), (ways, lost, floor)), True)
                 paper = wait_paper(again, 1, 0, other, top_of(again))
                 self.assertTrue(helper.right_wait_paper(again, 1, 0, other, top_of(again), paper))
+                self.assertIs(wait_paper_holds(again, 1, 0, other, top_of(again), paper), True)
+                if row[other] is not None:
+                    hands = ((other, row[other]), (1, 0))
+                    self.assertIs(spread_holds(again, hands, spread(again, hands)), True)
+                    self.assertEqual(spread(again, hands)[other], (row[other], 0, -1))
 
     def test_what_is_told_of_several_is_a_tuple(self):
         net = (3, (("to", 0, 1, 0, 1), ("both", 1, 2, 1, 1)))
@@ -125,7 +146,10 @@ class Same(unittest.TestCase):
             meets_paper(net, 0, 0, 2, 5), meets_paper(net, 0, 0, 2, 5)[2], meets_paper(net, 0, 0, 2, 1),
             reach(net, 0, 2), reach(net, 0, 2)[0], reach(net, 2, 0), *reach_paper(net, 0, 2), reach_paper(net, 0, 2),
             waiting(net, 0, 0, 1), wait_paper(net, 0, 0, 2, 1), *wait_paper(net, 0, 0, 2, 1)[1:],
-            wait_paper(net, 2, 0, 0, 1), wait_paper(net, 0, 0, 2, 1)[2][0],
+            wait_paper(net, 2, 0, 0, 1), wait_paper(net, 0, 0, 2, 1)[2][0], spread(net, ((0, 0),)),
+            *spread(net, ((0, 0),)), spread_way(net, ((0, 0),), 2), spread_way(net, ((0, 0),), 0),
+            parted(net, 0, 0, 2, 5), *parted(net, 0, 0, 2, 5), *parted(net, 0, 0, 2, 5)[0], places_lost(net, 0, 0, 2, 5),
+            places_apart(net, 0, 0, 2, 5), lost_paper(net, 0, 0, 2, 5), *lost_paper(net, 0, 0, 2, 5), gap(), *gap(),
         ):
             self.assertIs(type(told), tuple)
 
