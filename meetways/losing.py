@@ -1,10 +1,10 @@
 """The fewest inner places whose loss parts two places, ways that share no inner place, and papers of both."""
 
-from meetways.chosen import rising_tuples
+from meetways.chosen import first_choice, next_choice, things_of
 from meetways.earliest import earliest
 from meetways.fewest import few_way, fewest
 from meetways.narrow import net_of, numbers_around, numbers_back
-from meetways.nets import steps_of
+from meetways.nets import inner_of, steps_of
 from meetways.ways import places_on
 
 
@@ -123,8 +123,12 @@ def lost_paper(net, place, moment, other, by):
     if lost is None:
         return None
     floor = earliest(net_of(net, numbers_around(net, lost)), place, moment)
-    inner = [between for between in range(many) if between not in (place, other)]
-    ways = [way_around(net, ask, fewer) for fewer in rising_tuples(inner, len(lost) - 1)]
+    inner = inner_of(many, place, other)
+    ways = []
+    chosen = first_choice(len(inner), len(lost) - 1)
+    while chosen is not None:
+        ways.append(way_around(net, ask, things_of(inner, chosen)))
+        chosen = next_choice(len(inner), chosen)
     return lost, floor, tuple(ways)
 
 

@@ -50,6 +50,11 @@ def begins_from(net, one, moment):
         begin for number, start, to, begin, end in steps_of(net) if start == one and begin >= moment}))
 
 
+def inner_of(many, place, other):
+    """Tell all of so many places but the two, rising."""
+    return [inner for inner in range(many) if inner not in (place, other)]
+
+
 def row_of(net, found):
     """Tell a row with what was found for each place, None where nothing was."""
     many, meetings = net

@@ -534,6 +534,72 @@ def right_lost_paper(net, place, moment, other, by, thing):
     return True
 
 
+def all_pairs_of(net):
+    """The pairs of any two unlike places, by (one, other), those that have none left out."""
+    found = {}
+    for one in range(net[0]):
+        for other, pairs in enumerate(pairs_again_and_again(net, one)):
+            if one != other and pairs:
+                found[one, other] = pairs
+    return found
+
+
+def all_asks_of(net, top):
+    """For all two places and all moments to the top who can come where from when till when."""
+    return {
+        (place, moment, other): come for place in range(net[0]) for moment in range(top + 1)
+        for other, come in enumerate(earliest_of_all_ways(net, place, moment))}
+
+
+def plain_of_pairs(net):
+    """The plain form, each pair held against all two others."""
+    pairs = all_pairs_of(net)
+    kept = []
+    for (one, other), told in pairs.items():
+        for leave, come in told:
+            made = [
+                1 for third in range(net[0]) for first in pairs.get((one, third), ()) if first[0] >= leave
+                for second in pairs.get((third, other), ()) if second[0] >= first[1] and second[1] <= come]
+            if not made:
+                kept.append(("to", one, other, leave, come - leave))
+    return net[0], tuple(sorted(kept))
+
+
+def thinned_by_pairs(net):
+    """The numbers that stay, what stays held against the whole net each time."""
+    pairs = all_pairs_of(net)
+    stay = list(range(len(net[1])))
+    for number in range(len(net[1]) - 1, -1, -1):
+        fewer = [kept for kept in stay if kept != number]
+        if all_pairs_of((net[0], tuple(net[1][kept] for kept in fewer))) == pairs:
+            stay = fewer
+    return tuple(stay)
+
+
+def right_alike_paper(one, other, thing):
+    if type(thing) is not tuple or not thing:
+        return False
+    if same(thing[0], "alike"):
+        if [type(part) for part in thing] != [str, tuple, tuple]:
+            return False
+        for told, steps, net in ((thing[1], plain_steps(one), other), (thing[2], plain_steps(other), one)):
+            if len(told) != len(steps):
+                return False
+            for way, (_, start, to, begin, end) in zip(told, steps):
+                if not right_way_by(net, start, begin, to, end, way):
+                    return False
+        return True
+    if not same(thing[0], "parts") or len(thing) != 5:
+        return False
+    which, ask, way, floor = thing[1:]
+    if not (same(which, 0) or same(which, 1)) or type(ask) is not tuple or [type(part) for part in ask] != [int] * 4:
+        return False
+    place, moment, to, by = ask
+    if min(ask) < 0 or max(place, to) >= one[0] or not right_way_by((one, other)[which], *ask, way):
+        return False
+    return right_floor((other, one)[which], place, moment, floor) and (floor[to] is None or floor[to] > by)
+
+
 # --- nets ------------------------------------------------------------------------------------------------------
 
 
@@ -615,6 +681,29 @@ def places_nets():
         dice.shuffle(meetings)
         nets.append((10, tuple(meetings)))
     return nets
+
+
+def put_otherwise(dice, net):
+    """An alike net: another order, both as two, slower meetings more, alike ones, some that ways make."""
+    meetings = []
+    for word, one, other, begin, long in net[1]:
+        if word == "both" and dice.random() < 0.5:
+            meetings += [("to", one, other, begin, long), ("to", other, one, begin, long)]
+        elif word == "both" and dice.random() < 0.5:
+            meetings.append(("both", other, one, begin, long))
+        else:
+            meetings.append((word, one, other, begin, long))
+    for word, one, other, begin, long in list(meetings):
+        if dice.random() < 0.3:
+            sooner, later = dice.choice(((0, 0), (0, 1), (1, 0), (2, 3)))
+            sooner = min(sooner, begin)
+            meetings.append((dice.choice((word, "to")), one, other, begin - sooner, long + sooner + later))
+        if dice.random() < 0.3:
+            # On from where this one led: what the two make together.
+            further = [step for step in plain_steps(net) if step[1] == other and step[3] >= begin + long and step[2] != one]
+            meetings += [("to", one, step[2], begin, step[4] - begin) for step in further[:1]]
+    dice.shuffle(meetings)
+    return net[0], tuple(meetings)
 
 
 def lowered(dice, row):

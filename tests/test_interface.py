@@ -37,11 +37,19 @@ LISTED = {
         "places_lost(net, place, moment, other, by)", "places_apart(net, place, moment, other, by)",
         "lost_paper(net, place, moment, other, by)", "gap()",
     ),
+    "losschecks": ("lost_paper_holds(net, place, moment, other, by, thing)",),
+    "plain": ("plain(net)", "thinned(net)"),
+    "alike": ("are_alike(one, other)", "alike_paper(one, other)"),
+    "alikechecks": ("alike_paper_holds(one, other, thing)",),
 }
 
 CLASSES = {
     ("tables", "Tables(many)"): (
         "tell(self, meeting)", "strike(self, number)", "table(self, one, other)", "standing(self)"),
+    ("stand", "Stand(many)"): (
+        "tell(self, meeting)", "strike(self, number)", "go_on(self, moment)", "ask(self, place, moment, other)",
+        "said(self, number)", "turned(self)", "late(self)", "deeds(self)", "known(self, count)", "net(self)", "standing(self)"),
+    ("desk", "Desk(many)"): ("say(self, text)",),
 }
 
 

@@ -4,6 +4,8 @@ import copy
 import unittest
 
 import helper
+from meetways.alike import alike_paper, are_alike
+from meetways.alikechecks import alike_paper_holds
 from meetways.earlychecks import early_paper_holds
 from meetways.earliest import earliest, early_way
 from meetways.earlypapers import early_paper
@@ -14,11 +16,13 @@ from meetways.latechecks import ceiling_holds, late_paper_holds
 from meetways.latepapers import late_paper
 from meetways.latest import latest
 from meetways.losing import gap, lost_paper, places_apart, places_lost
+from meetways.losschecks import lost_paper_holds
 from meetways.meetchecks import meets_paper_holds
 from meetways.nets import is_meeting, is_net, steps_of
 from meetways.nettexts import read_net, show_net
 from meetways.partchecks import parted_holds
 from meetways.parting import parted
+from meetways.plain import plain, thinned
 from meetways.reach import reach
 from meetways.reachchecks import reach_paper_holds
 from meetways.reachpapers import reach_paper
@@ -55,6 +59,8 @@ def all_told(net):
         if places_lost(net, 0, 0, last, top_of(net)) is not None:
             told += [places_apart(net, 0, 0, last, top_of(net)), lost_paper(net, 0, 0, last, top_of(net))]
     told += [waiting(net, 0, 0, 3), waiting(net, last, 1, 0), wait_paper(net, 0, 0, last, 3)]
+    told += [plain(net), thinned(net), are_alike(net, plain(net)), alike_paper(plain(net), net)]
+    told += [alike_paper(net, (net[0], net[1][1:])), are_alike(net, (net[0], net[1][1:]))]
     told += [spread(net, ((0, 0), (last, 1))), spread_way(net, ((last, 0), (0, 0)), last)]
     if way is not None:
         told += [is_way(net, 0, 0, way), places_on(net, 0, way), comes_at(net, 0, way), waits_on(net, 0, way)]
@@ -78,6 +84,9 @@ def all_judged(net, thing):
         wait_paper_holds(net, 0, 0, 2, 5, ("comes", thing, ((0, 0), (1, 1)))), spread_holds(net, ((0, 0),), thing),
         spread_holds(net, ((0, 0),), (thing, thing, thing)), parted_holds(net, 0, 0, 2, 5, thing),
         parted_holds(net, 0, 0, 2, 5, (thing, thing, thing)), parted_holds(net, 0, 0, 2, 5, (((0, 1),), thing, thing)),
+        lost_paper_holds(net, 0, 0, 2, 5, thing), lost_paper_holds(net, 0, 0, 2, 5, (thing, thing, thing)),
+        lost_paper_holds(net, 0, 0, 2, 5, ((1,), (0, None, None), thing)), alike_paper_holds(net, net, thing),
+        alike_paper_holds(net, net, ("alike", thing, thing)), alike_paper_holds(net, net, ("parts", 0, thing, thing, thing)),
     ]
 
 
@@ -128,6 +137,14 @@ class Same(unittest.TestCase):
                     self.assertEqual(tuple(row[:2] for row in paper[0]), reach(again, 1, other))
                     ways, lost, floor = parted(again, 1, 0, other, top_of(again))
                     self.assertIs(parted_holds(again, 1, 0, other, top_of(again), (ways, lost, floor)), True)
+                    if places_lost(again, 1, 0, other, top_of(again)) is not None:
+                        paper = lost_paper(again, 1, 0, other, top_of(again))
+                        self.assertIs(lost_paper_holds(again, 1, 0, other, top_of(again), paper), True)
+                self.assertEqual(plain(plain(again)), plain(again))
+                for first, second in ((again, plain(again)), (plain(again), (3, again[1][:1]))):
+                    paper = alike_paper(first, second)
+                    self.assertIs(alike_paper_holds(first, second, paper), True)
+                    self.assertEqual(paper[0] == "alike", plain(first) == plain(second))
                 paper = wait_paper(again, 1, 0, other, top_of(again))
                 self.assertTrue(helper.right_wait_paper(again, 1, 0, other, top_of(again), paper))
                 self.assertIs(wait_paper_holds(again, 1, 0, other, top_of(again), paper), True)
@@ -150,6 +167,8 @@ class Same(unittest.TestCase):
             *spread(net, ((0, 0),)), spread_way(net, ((0, 0),), 2), spread_way(net, ((0, 0),), 0),
             parted(net, 0, 0, 2, 5), *parted(net, 0, 0, 2, 5), *parted(net, 0, 0, 2, 5)[0], places_lost(net, 0, 0, 2, 5),
             places_apart(net, 0, 0, 2, 5), lost_paper(net, 0, 0, 2, 5), *lost_paper(net, 0, 0, 2, 5), gap(), *gap(),
+            plain(net), plain(net)[1], thinned(net), alike_paper(net, net), *alike_paper(net, net)[1:],
+            alike_paper(net, (3, ())), *alike_paper(net, (3, ()))[2:],
         ):
             self.assertIs(type(told), tuple)
 
