@@ -23,9 +23,14 @@ def inner_on(net, ask, way):
     return places_on(net, ask[0], way)[1:-1]
 
 
-def some_apart(net, ask, shunned):
-    """Tell ways that share no inner place and come to no shunned one; perhaps more could be, but no further one."""
-    ways = []
+def some_apart(net, ask, shunned, known):
+    """Tell the known ways, that share no inner place and come to no shunned one, and all further ones that are found.
+
+    Other ways might be more; besides these there is no further one.
+    """
+    ways = list(known)
+    for way in known:
+        shunned = shunned + inner_on(net, ask, way)
     way = way_around(net, ask, shunned)
     while way is not None:
         ways.append(way)
@@ -34,15 +39,19 @@ def some_apart(net, ask, shunned):
     return ways
 
 
-def can_part(net, ask, lost, more):
-    """Tell whether so many more lost places, or fewer, besides these can part the two."""
-    ways = some_apart(net, ask, lost)
+def can_part(net, ask, lost, more, known):
+    """Tell whether so many more lost places, or fewer, besides these can part the two.
+
+    The known ways share no inner place and come to none of the lost ones.
+    """
+    ways = some_apart(net, ask, lost, known)
     # Each of these ways needs a lost place of its own.
     if len(ways) > more:
         return False
     if not ways:
         return True
-    return any(can_part(net, ask, lost + (place,), more - 1) for place in inner_on(net, ask, ways[0]))
+    first, *others = ways
+    return any(can_part(net, ask, lost + (place,), more - 1, others) for place in inner_on(net, ask, first))
 
 
 def inner_places(net, ask):
@@ -58,12 +67,13 @@ def places_lost(net, place, moment, other, by):
     ask = (place, moment, other, by)
     if fewest(net, place, moment, other, by) == 1:
         return None
-    more = len(some_apart(net, ask, ()))
-    while not can_part(net, ask, (), more):
+    ways = some_apart(net, ask, (), [])
+    more = len(ways)
+    while not can_part(net, ask, (), more, ways):
         more += 1
     lost = ()
     for inner in inner_places(net, ask):
-        if len(lost) < more and can_part(net, ask, lost + (inner,), more - len(lost) - 1):
+        if len(lost) < more and can_part(net, ask, lost + (inner,), more - len(lost) - 1, []):
             lost = lost + (inner,)
     return lost
 
@@ -108,7 +118,7 @@ def places_apart(net, place, moment, other, by):
     lost = places_lost(net, place, moment, other, by)
     if lost is None:
         return None
-    ways = some_apart(net, ask, ())
+    ways = some_apart(net, ask, (), [])
     if len(ways) < len(lost):
         found = least_ways(net, ask)
         ways = [found[inner] for inner in most_apart(sorted(found, key=len), len(lost))]

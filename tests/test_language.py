@@ -36,16 +36,16 @@ def names_defined(tree):
     return found
 
 
-def own_attributes():
-    """The methods that the package's classes define, and the attributes that are assigned."""
-    found = set()
-    for tree in TREES.values():
-        for node in ast.walk(tree):
-            if isinstance(node, ast.ClassDef):
-                found |= {part.name for part in node.body if isinstance(part, ast.FunctionDef)}
-            if isinstance(node, ast.Attribute) and isinstance(node.ctx, ast.Store):
-                found.add(node.attr)
-    return found
+def own_methods():
+    """The methods that the package's classes define."""
+    classes = [node for tree in TREES.values() for node in ast.walk(tree) if isinstance(node, ast.ClassDef)]
+    return {part.name for node in classes for part in node.body if isinstance(part, ast.FunctionDef)}
+
+
+def assigned_attributes():
+    """The attributes that are assigned."""
+    nodes = [node for tree in TREES.values() for node in ast.walk(tree) if isinstance(node, ast.Attribute)]
+    return {node.attr for node in nodes if isinstance(node.ctx, ast.Store)}
 
 
 def imported(tree):
@@ -117,7 +117,8 @@ class Language(unittest.TestCase):
 
     def test_names(self):
         known = set(dir(builtins))
-        attributes = METHODS | own_attributes()
+        self.assertEqual(own_methods() & assigned_attributes(), set())
+        attributes = METHODS | own_methods() | assigned_attributes()
         for stem, tree in TREES.items():
             taken = {name for _, name in imported(tree)}
             for node in ast.walk(tree):
